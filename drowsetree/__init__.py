@@ -1,0 +1,1 @@
+"""Drowsetree: devices that doze, sleep and wake by need, in any weaving."""

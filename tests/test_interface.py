@@ -1,0 +1,72 @@
+"""The interface: names, arguments, what may be left out, and where each is defined."""
+
+import ast
+import importlib
+import inspect
+import pathlib
+import unittest
+
+FUNCTIONS = {
+    "words": {
+        "is_whole": "(thing, low, high)", "is_name": "(thing)", "number_of": "(thing, *, least=0, most=1000000)",
+        "is_word": "(thing)", "words_of": "(thing)", "split_row": "(thing)", "row_of": "(first, others=())",
+    },
+    "orders": {
+        "needs_of": "(devices, links=())", "ring_of": "(devices, links=())",
+        "shows_ring": "(devices, links, thing)", "order_of": "(devices, links=())",
+        "shows_order": "(devices, links, thing)",
+    },
+}
+CLASSES = {
+    "devices": {
+        "Device": {
+            "__init__": "(self, name, *, parent=None, burn=5, sip=1, wake=1, fall=1, rest=0)",
+            "name": "(self)", "parent": "(self)", "burn": "(self)", "sip": "(self)", "wake": "(self)",
+            "fall": "(self)", "rest": "(self)", "told": "(self)", "__eq__": "(self, other)", "__str__": "(self)",
+        },
+    },
+}
+VALUES = {
+    "words": {"MOST": 1000000},
+    "devices": {"BURN": 5, "SIP": 1, "WAKE": 1, "FALL": 1, "REST": 0},
+}
+
+
+def load(module):
+    return importlib.import_module(f"drowsetree.{module}")
+
+
+class InterfaceTest(unittest.TestCase):
+    def test_functions(self):
+        for module, functions in FUNCTIONS.items():
+            for name, arguments in functions.items():
+                found = getattr(load(module), name)
+                self.assertEqual(f"drowsetree.{module}", found.__module__)
+                self.assertEqual(arguments, str(inspect.signature(found)), name)
+
+    def test_classes_define_each_method_themselves(self):
+        for module, classes in CLASSES.items():
+            for name, methods in classes.items():
+                found = getattr(load(module), name)
+                self.assertEqual(f"drowsetree.{module}", found.__module__)
+                for method, arguments in methods.items():
+                    self.assertIn(method, vars(found), name)
+                    self.assertEqual(arguments, str(inspect.signature(vars(found)[method])), (name, method))
+
+    def test_values(self):
+        for module, values in VALUES.items():
+            for name, value in values.items():
+                found = getattr(load(module), name)
+                self.assertEqual(value, found)
+                self.assertIs(type(value), type(found))
+
+    def test_values_stand_in_their_own_file(self):
+        for module, values in VALUES.items():
+            tree = ast.parse(pathlib.Path(load(module).__file__).read_text())
+            assigned = [node.targets[0].id for node in tree.body if isinstance(node, ast.Assign)]
+            for name in values:
+                self.assertEqual(1, assigned.count(name))
+
+
+if __name__ == "__main__":
+    unittest.main()
