@@ -16,6 +16,7 @@ FUNCTIONS = {
         "shows_ring": "(devices, links, thing)", "order_of": "(devices, links=())",
         "shows_order": "(devices, links, thing)",
     },
+    "logs": {"is_row": "(thing)"},
 }
 CLASSES = {
     "devices": {
@@ -25,10 +26,48 @@ CLASSES = {
             "fall": "(self)", "rest": "(self)", "told": "(self)", "__eq__": "(self, other)", "__str__": "(self)",
         },
     },
+    "machines": {
+        "Machine": {
+            "__init__": "(self, devices, links=())", "names": "(self)", "devices": "(self)", "links": "(self)",
+            "device": "(self, name)", "needs": "(self, name)", "users": "(self, name)", "way": "(self, name)",
+            "above": "(self, name)", "order": "(self)", "with_device": "(self, device, links=())",
+            "without": "(self, name)", "__len__": "(self)", "__eq__": "(self, other)", "told": "(self)",
+        },
+    },
+    "drivers": {
+        "Drivers": {
+            "__init__": "(self, faults=())", "answer": "(self, device, deed)", "asked": "(self, device, deed)",
+            "faults": "(self, *, coming=False)", "__len__": "(self)", "marks": "(self)", "copied": "(self)",
+        },
+    },
+    "logs": {
+        "Log": {
+            "__init__": "(self)", "add": "(self, turn, words)", "rows": "(self)", "last": "(self, many=1)",
+            "__len__": "(self)", "copied": "(self)",
+        },
+    },
+    "power": {
+        "Power": {
+            "__init__": "(self, machine, *, drivers=None)", "machine": "(self)", "clock": "(self)",
+            "energy": "(self)", "state": "(self, name)", "holds": "(self, name)", "due": "(self, name)",
+            "held": "(self, name)", "states": "(self)", "counts": "(self)", "grips": "(self)", "log": "(self)",
+            "gain": "(self, name)", "release": "(self, name, *, now=False)", "use": "(self, name)",
+            "tick": "(self, many=1)", "reset": "(self, name)", "at_rest": "(self)", "copied": "(self)",
+            "need_awake": "(self, deed)", "pass_turns": "(self, many, waking=None)",
+            "put_state": "(self, name, word)", "grip": "(self, names, more)", "count_more": "(self, name, more)",
+            "note": "(self, words)", "driver_answer": "(self, name, deed)", "settle": "(self)",
+            "become": "(self, machine)", "marks": "(self)",
+        },
+    },
 }
 VALUES = {
     "words": {"MOST": 1000000},
     "devices": {"BURN": 5, "SIP": 1, "WAKE": 1, "FALL": 1, "REST": 0},
+    "drivers": {"DEEDS": ("wake", "doze", "ready", "sleep", "late", "still")},
+    "logs": {
+        "PHASES": ("ready", "sleep", "late", "still"), "BELLS": ("unheard", "noted", "broke", "woke"),
+        "STATES": ("waking", "wake", "falling", "doze", "stays", "off", "use", "reset", "unplug"),
+    },
 }
 
 
