@@ -8,7 +8,7 @@ from drowsetree.logs import Log
 from drowsetree.machines import Machine
 from drowsetree.words import is_truth, is_whole
 
-_MOST_TICK = 100
+MOST_TICK = 100
 
 
 class Power:
@@ -109,7 +109,7 @@ class Power:
 
     def tick(self, many=1):
         """Let turns go by; the clock is told."""
-        if not is_whole(many, 1, _MOST_TICK):
+        if not is_whole(many, 1, MOST_TICK):
             raise NoNumber(many)
         self.need_awake("tick")
         self.note(("begin", "tick", None))
@@ -135,7 +135,7 @@ class Power:
     def copied(self):
         """Another Power that stands as this one; from then on each goes its own way."""
         other = Power(self._machine)
-        other.lay(self)
+        other.stand_as(self)
         return other
 
     def need_awake(self, deed):
@@ -197,7 +197,7 @@ class Power:
             self._drivers.marks(),
         )
 
-    def lay(self, other):
+    def stand_as(self, other):
         """Stand as another Power of this machine stands, of which all is copied."""
         self._drivers = other._drivers.copied()
         self._states = other.states()

@@ -17,6 +17,8 @@ FUNCTIONS = {
         "shows_order": "(devices, links, thing)",
     },
     "logs": {"is_row": "(thing)"},
+    "logwalk": {"walk_log": "(machine, rows, *, begun=None)"},
+    "meter": {"turn_costs": "(machine, rows)", "spent": "(machine, rows, *, names=None)"},
 }
 CLASSES = {
     "devices": {
@@ -59,7 +61,29 @@ CLASSES = {
             "become": "(self, machine)", "marks": "(self)",
         },
     },
+    "getting": {
+        "Getting": {
+            "__init__": "(self, power, name)", "step": "(self)", "ended": "(self)", "copied": "(self, power)",
+        },
+    },
+    "logwalk": {
+        "LogWalk": {
+            "__init__": "(self, machine)", "go": "(self, row)", "states": "(self)", "counts": "(self)",
+            "gains": "(self)", "clock": "(self)", "energy": "(self)", "__len__": "(self)", "copied": "(self)",
+            "machine": "(self)", "fresh": "(self)", "lay": "(self, other)", "come": "(self, words)",
+            "take_free": "(self, words)", "put_state": "(self, name, word)", "must_come": "(self, rows)",
+            "settles": "(self)", "become": "(self, machine)",
+        },
+    },
+    "sleeping": {
+        "Sleeper": {
+            "__init__": "(self, machine, *, drivers=None)", "mode": "(self)", "begin_fall": "(self)",
+            "fall_step": "(self)", "fall_asleep": "(self)", "rise": "(self)", "copied": "(self)",
+            "break_off": "(self, word)",
+        },
+    },
 }
+BASES = {"sleeping": ("Sleeper", "power", "Power")}
 VALUES = {
     "words": {"MOST": 1000000},
     "devices": {"BURN": 5, "SIP": 1, "WAKE": 1, "FALL": 1, "REST": 0},
@@ -91,6 +115,10 @@ class InterfaceTest(unittest.TestCase):
                 for method, arguments in methods.items():
                     self.assertIn(method, vars(found), name)
                     self.assertEqual(arguments, str(inspect.signature(vars(found)[method])), (name, method))
+
+    def test_bases(self):
+        for module, (name, base_module, base) in BASES.items():
+            self.assertEqual((getattr(load(base_module), base),), getattr(load(module), name).__bases__)
 
     def test_values(self):
         for module, values in VALUES.items():

@@ -17,7 +17,7 @@ NOT_USED = (
 BUILTINS = {
     "len", "range", "enumerate", "zip", "min", "max", "sum", "abs", "sorted", "reversed", "int", "str", "bool",
     "list", "tuple", "dict", "isinstance", "ord", "repr", "any", "all", "divmod", "ValueError", "TypeError",
-    "KeyError", "LookupError", "IndexError",
+    "KeyError", "LookupError", "IndexError", "super",
 }
 SPECIAL = {"__init__", "__eq__", "__str__", "__len__"}
 BARRED = {"register", "mro", "elements", "open", "input", "law", "type", "enum", "typing"}
@@ -119,6 +119,11 @@ class RulesTest(unittest.TestCase):
             for node in ast.walk(tree):
                 if isinstance(node, (ast.Name, ast.Attribute)):
                     self.assertNotIn(node.id if isinstance(node, ast.Name) else node.attr, BARRED, name)
+
+    def test_super_is_asked_for_a_method_alone(self):
+        for name, text, _ in files():
+            for behind in re.findall(r"\bsuper\b(.{4})", text):
+                self.assertRegex(behind, r"\(\)\.[a-z]", name)
 
     def test_no_method_is_an_attribute_too(self):
         methods, attributes = set(), set()
