@@ -149,6 +149,7 @@ class LogWalk:
         self._dues = {name: self._dues.get(name) for name in names}
 
     def __len__(self):
+        # The rows themselves are not kept, only how many they are.
         return len(range(self._many))
 
     def _takes(self, turn, words):
@@ -190,7 +191,7 @@ class LogWalk:
 
     def _ends_waker(self, words, word):
         """Take the row by which one of the gains that may have woken a device is broken off."""
-        for name in self._wakers:
+        for name in list(self._wakers):
             if words == ("end", "gain", name, word):
                 self._wakers = []
                 self._end_gain(name)

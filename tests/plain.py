@@ -9,6 +9,7 @@ from drowsetree.devices import Device
 from drowsetree.errors import NoDevice, StateError, WakeError
 from drowsetree.getting import Getting
 from drowsetree.machines import Machine
+from drowsetree.orders import ring_of
 
 NAMES = ["a", "b", "c", "d", "e"]
 
@@ -97,7 +98,7 @@ class Plain:
         self.row("end", "gain", name, word)
         self.settle()
 
-    def release(self, name, now):
+    def release(self, name, now=False):
         self.need_awake()
         if self.count[name] == 0:
             raise Refused("NotHeld", {"found": name})
@@ -266,6 +267,115 @@ class PlainSleeper(Plain):
         self.row("end", "rise", None, "done")
 
 
+class PlainListener(PlainSleeper):
+    """A Listener, told again."""
+
+    def __init__(self, machine, faults):
+        PlainSleeper.__init__(self, machine, faults)
+        self.bells, self.heard, self.rang = set(), 0, []
+
+    def arm(self, name, on=True):
+        self.bells = self.bells | {name} if on else self.bells - {name}
+
+    def armed(self):
+        return [name for name in self.devices if name in self.bells]
+
+    def bell(self, name):
+        if name not in self.bells or self.state[name] == "off":
+            word = "unheard"
+        else:
+            word = {"awake": "noted", "falling": "broke", "asleep": "woke"}[self.mode]
+            self.heard += 1
+        self.rang.append((self.clock, name, word))
+        self.row("bell", name, word)
+        if word == "broke":
+            self.break_off("bell")
+        if word == "woke":
+            self.rise()
+        return word
+
+    def begin_fall(self, seen=None):
+        self.need_awake()
+        if seen not in (None, self.heard):
+            raise Refused("Heard", {"many": self.heard})
+        PlainSleeper.begin_fall(self)
+
+    def fall_asleep(self, seen=None):
+        self.begin_fall(seen)
+        while not self.fall_step():
+            pass
+
+
+class PlainHost(PlainListener):
+    """A Host, told again."""
+
+    def __init__(self, machine, faults):
+        PlainListener.__init__(self, machine, faults)
+        self.links, self.changes = machine.links(), 0
+
+    def machine(self):
+        return Machine(list(self.devices.values()), self.links)
+
+    def plug(self, device, links=()):
+        self.need_awake()
+        name, names = device.name(), [*self.devices, device.name()]
+        if len(self.devices) == 8 or len(self.links) + len(links) > 16:
+            raise Refused("TooMany", {"many": 9 if len(self.devices) == 8 else len(self.links) + len(links)})
+        if name in self.devices:
+            raise Refused("Doubled", {"found": name})
+        if device.parent() not in (None, *names):
+            raise Refused("NoDevice", {"found": device.parent()})
+        self.check_links(names, links)
+        ring = ring_of([*self.devices.values(), device], [*self.links, *links])
+        if ring:
+            raise Refused("Ring", {"found": ring})
+        for user, _ in links:
+            if user != name and (self.state[user] == "on" or self.count[user] or self.grip[user]):
+                raise Refused("InUse", {"found": user})
+        self.devices[name], self.state[name], self.count[name] = device, "doze", 0
+        self.grip[name], self.due[name] = 0, None
+        self.links = [*self.links, *links]
+        self.changed()
+        self.row("plug", device.told(), tuple(links))
+
+    def check_links(self, names, links):
+        ahead = list(self.links)
+        for link in links:
+            if len(set(link)) != 2:
+                raise Refused("NoLink", {"found": link})
+            for one in link:
+                if one not in names:
+                    raise Refused("NoDevice", {"found": one})
+            if link in ahead:
+                raise Refused("Doubled", {"found": link})
+            ahead.append(link)
+
+    def unplug(self, name):
+        self.need_awake()
+        users = [one for one in self.devices if name in self.needs[one]]
+        if users:
+            raise Refused("Needed", {"found": users})
+        if len(self.devices) == 1:
+            raise Refused("TooMany", {"many": 0})
+        if self.count[name] or self.grip[name]:
+            raise Refused("InUse", {"found": name})
+        device = self.devices[name]
+        for table in (self.devices, self.state, self.count, self.grip, self.due):
+            del table[name]
+        self.bells.discard(name)
+        self.links = [link for link in self.links if link[0] != name]
+        self.changed()
+        self.row("unplug", name)
+        self.settle()
+        return device
+
+    def changed(self):
+        self.changes += 1
+        machine = self.machine()
+        self.needs = {name: machine.needs(name) for name in self.devices}
+        self.order = machine.order()
+
+
 class Pair:
     """Something of the package and its plain telling, which do the same; a test compares them."""
 
@@ -321,6 +431,11 @@ class Pair:
         equal([one.ended for one, _ in self.gettings], [other.ended() for _, other in self.gettings])
         if isinstance(plain, PlainSleeper):
             equal(plain.mode, real.mode())
+        if isinstance(plain, PlainListener):
+            equal((plain.armed(), plain.heard, plain.rang), (real.armed(), real.heard(), real.rings()))
+            equal([ring for ring in plain.rang if ring[2] != "unheard"], real.rings(unheard=False))
+        if isinstance(plain, PlainHost):
+            equal((plain.machine(), plain.changes), (real.machine(), real.changes()))
 
 
 def random_machine(chance, names):

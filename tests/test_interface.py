@@ -82,8 +82,33 @@ CLASSES = {
             "break_off": "(self, word)",
         },
     },
+    "sleepwalk": {
+        "SleepWalk": {
+            "__init__": "(self, machine)", "mode": "(self)", "copied": "(self)", "undoing": "(self, deed, word)",
+        },
+    },
+    "bells": {
+        "Listener": {
+            "__init__": "(self, machine, *, drivers=None)", "arm": "(self, name, *, on=True)", "armed": "(self)",
+            "bell": "(self, name)", "heard": "(self)", "rings": "(self, *, unheard=True)",
+            "begin_fall": "(self, *, seen=None)", "fall_asleep": "(self, *, seen=None)", "copied": "(self)",
+        },
+    },
+    "bellwalk": {
+        "BellWalk": {"__init__": "(self, machine)", "heard": "(self)", "copied": "(self)"},
+    },
+    "plugging": {
+        "Host": {
+            "__init__": "(self, machine, *, drivers=None)", "plug": "(self, device, *, links=())",
+            "unplug": "(self, name)", "changes": "(self)", "copied": "(self)",
+        },
+    },
 }
-BASES = {"sleeping": ("Sleeper", "power", "Power")}
+BASES = {
+    "sleeping": ("Sleeper", "power", "Power"), "sleepwalk": ("SleepWalk", "logwalk", "LogWalk"),
+    "bells": ("Listener", "sleeping", "Sleeper"), "bellwalk": ("BellWalk", "sleepwalk", "SleepWalk"),
+    "plugging": ("Host", "bells", "Listener"),
+}
 VALUES = {
     "words": {"MOST": 1000000},
     "devices": {"BURN": 5, "SIP": 1, "WAKE": 1, "FALL": 1, "REST": 0},
