@@ -4,6 +4,7 @@ from drowsetree.devices import Device
 from drowsetree.drivers import Drivers
 from drowsetree.errors import NoName
 from drowsetree.logs import Log
+from drowsetree.logwalk import LogWalk
 from drowsetree.machines import Machine
 
 
@@ -13,7 +14,7 @@ def odd_things():
         None, True, False, 0, 1, -1, 2, 10 ** 29, -(10 ** 29),
         "", " ", "A", "a b", "a ", " a", "a\n", "\n", "abcdefghi", "a1", "_", "-", "0", "~",
         [], (), {}, ["a"], ("a",), {"a": 1}, {("a", 1): [None]}, [[[()]]], (("a", "b"),), [None],
-        Device("a"), Machine([Device("a")]), Drivers(), Log(), NoName("a"),
+        Device("a"), Machine([Device("a")]), Drivers(), Log(), LogWalk(Machine([Device("a")])), NoName("a"),
     ]
 
 
