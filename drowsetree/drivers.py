@@ -7,7 +7,7 @@ DEEDS = ("wake", "doze", "ready", "sleep", "late", "still")
 
 _MOST_FAULTS = 40
 _MOST_TIMES = 30
-_FAULT_WORDS = ("busy", "broken")
+FAULT_WORDS = ("busy", "broken")
 
 
 class Drivers:
@@ -75,4 +75,4 @@ def _is_fault(thing):
     device, deed, number, word = thing
     if not is_name(device) or deed not in DEEDS:
         return False
-    return is_whole(number, 1, _MOST_TIMES) and word in _FAULT_WORDS
+    return is_whole(number, 1, _MOST_TIMES) and word in FAULT_WORDS

@@ -15,9 +15,14 @@ def is_truth(thing):
     return isinstance(thing, bool)
 
 
+def is_number(thing):
+    """Whether the thing is a whole number."""
+    return isinstance(thing, int) and not is_truth(thing)
+
+
 def is_at_least(thing, low):
     """Whether the thing is a whole number from low on."""
-    return isinstance(thing, int) and not is_truth(thing) and low <= thing
+    return is_number(thing) and low <= thing
 
 
 def is_whole(thing, low, high):

@@ -8,7 +8,8 @@ MOST_TURNS = 4
 PHASES = ("ready", "sleep", "late", "still")
 # How often rows are chosen, by their first word: so that devices are held, released, and doze.
 WEIGHTS = {"missed": 1, "use": 1, "reset": 6, "waking": 6, "wake": 16, "falling": 30, "off": 4, "doze": 10, "stays": 10,
-           "ready": 60, "sleep": 60, "late": 60, "still": 90}
+           "ready": 60, "sleep": 60, "late": 60, "still": 90,
+           "plug": 9, "unplug": 9}
 
 
 def small_machine(chance, many):
@@ -95,12 +96,16 @@ class Exact:
             for history in self.oracle.now():
                 self.test.assertEqual(told_of(history, self.walk), told_by(self.walk))
 
+    def words(self):
+        """The words of all rows that are tried."""
+        return words_over([*self.names, "zz"])
+
     def check_rows(self, follow):
         """All rows of the next turns are taken just where they may follow."""
         clock, begun = self.walk.clock(), turn_of_tick(self.oracle.rows)
         last = clock + 5 if begun is None else min(clock + 5, begun + MOST_TURNS)
         before = told_by(self.walk)
-        for words in words_over([*self.names, "zz"]):
+        for words in self.words():
             for turn in range(max(0, clock - 1), last + 1):
                 row = (turn, *words)
                 other = self.walk.copied()

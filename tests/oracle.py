@@ -92,6 +92,15 @@ def listener_deeds(history, most_turns):
     return told
 
 
+def host_deeds(plugs):
+    """What tells all deeds of a Host, into which these devices are plugged, with these links."""
+    def deeds(history, most_turns):
+        told = listener_deeds(history, most_turns)
+        told += [("plug", device, links) for device, links in plugs]
+        return told + [("unplug", name) for name in history.power.machine().names()]
+    return deeds
+
+
 def along(log, rows):
     """Whether the one is a beginning of the other."""
     many = min(len(log), len(rows))

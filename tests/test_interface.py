@@ -19,6 +19,21 @@ FUNCTIONS = {
     "logs": {"is_row": "(thing)"},
     "logwalk": {"walk_log": "(machine, rows, *, begun=None)"},
     "meter": {"turn_costs": "(machine, rows)", "spent": "(machine, rows, *, names=None)"},
+    "tasks": {
+        "is_deed": "(thing)", "deeds_of": "(task)", "tasks_of": "(tasks)", "touched": "(task)", "is_sound": "(task)",
+    },
+    "weave": {"one_by_one": "(host, tasks)"},
+    "ends": {
+        "all_ends": "(host, tasks)", "end_of": "(host, tasks, weaving)", "weaving_with": "(host, tasks, answer)",
+    },
+    "dozeplan": {"doze_plan": "(machine, uses, *, many=6, awake=())"},
+    "planpaper": {"shows_plan": "(machine, uses, thing, *, many=6, awake=())"},
+    "pages": {
+        "show_machine": "(machine)", "read_machine": "(text, *, begin=0)", "show_faults": "(drivers)",
+        "read_faults": "(text, *, begin=0)", "show_tasks": "(tasks)", "read_tasks": "(text, *, begin=0)",
+        "show_log": "(rows, *, since=0)", "read_log": "(text, *, begin=0)",
+        "show_page": "(machine, *, drivers=None, tasks=())", "read_page": "(text, *, begin=0)",
+    },
 }
 CLASSES = {
     "devices": {
@@ -103,11 +118,24 @@ CLASSES = {
             "unplug": "(self, name)", "changes": "(self)", "copied": "(self)",
         },
     },
+    "hostwalk": {
+        "HostWalk": {"__init__": "(self, machine)", "copied": "(self)"},
+    },
+    "weave": {
+        "Weave": {
+            "__init__": "(self, host, tasks)", "host": "(self)", "ready": "(self)", "ended": "(self)",
+            "answers": "(self)", "step": "(self, number)", "run": "(self, weaving)", "finish": "(self)",
+            "copied": "(self)", "marks": "(self)",
+        },
+    },
+    "desk": {
+        "Desk": {"__init__": "(self)", "say": "(self, line)"},
+    },
 }
 BASES = {
     "sleeping": ("Sleeper", "power", "Power"), "sleepwalk": ("SleepWalk", "logwalk", "LogWalk"),
     "bells": ("Listener", "sleeping", "Sleeper"), "bellwalk": ("BellWalk", "sleepwalk", "SleepWalk"),
-    "plugging": ("Host", "bells", "Listener"),
+    "plugging": ("Host", "bells", "Listener"), "hostwalk": ("HostWalk", "bellwalk", "BellWalk"),
 }
 VALUES = {
     "words": {"MOST": 1000000},
@@ -117,6 +145,8 @@ VALUES = {
         "PHASES": ("ready", "sleep", "late", "still"), "BELLS": ("unheard", "noted", "broke", "woke"),
         "STATES": ("waking", "wake", "falling", "doze", "stays", "off", "use", "reset", "unplug"),
     },
+    "dozeplan": {"PLAN_TURNS": 6},
+    "pages": {"FIRST_ROW": 0, "MOST_TURN": 1000000000},
 }
 
 
