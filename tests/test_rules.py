@@ -93,6 +93,27 @@ class RulesTest(unittest.TestCase):
                 told += [target.id for target in node.targets]
         return told
 
+    def test_no_two_files_import_from_each_other(self):
+        imports = {}
+        for name, _, tree in files():
+            sources = [node.module.split(".")[1] for node in tree.body if isinstance(node, ast.ImportFrom)]
+            imports[name.removesuffix(".py")] = sources
+        free = set()
+        while len(free) < len(imports):
+            more = {name for name in imports if free.issuperset(imports[name])} - free
+            self.assertNotEqual(set(), more, "a ring of imports")
+            free |= more
+
+    def test_values_at_module_level_are_plain(self):
+        plain = (ast.Constant, ast.List, ast.Tuple, ast.Dict, ast.Load)
+        for name, _, tree in files():
+            functions = {node.name for node in tree.body if isinstance(node, ast.FunctionDef)}
+            for node in tree.body:
+                if isinstance(node, ast.Assign):
+                    for one in ast.walk(node.value):
+                        is_function = isinstance(one, ast.Name) and one.id in functions
+                        self.assertTrue(is_function or isinstance(one, plain), (name, node.lineno))
+
     def test_all_that_is_imported_is_used(self):
         for name, _, tree in files():
             used = {node.id for node in ast.walk(tree) if isinstance(node, ast.Name)}
