@@ -14,9 +14,11 @@ class Desk:
     """What was gathered of a machine, and a Host to which deeds are done."""
 
     def __init__(self):
-        self._devices = []
-        self._links = []
-        self._faults = []
+        # These are tuples, since a refusal hands the very list out that a machine or drivers
+        # were to be made of: so each time that is a new one, and none of the desk's own.
+        self._devices = ()
+        self._links = ()
+        self._faults = ()
         self._host = None
         self._first_machine = None
         # How the desk was ahead of each line that may be taken back.
@@ -58,30 +60,30 @@ class Desk:
         device = device_of(values)
         if len(self._devices) == MOST_DEVICES:
             raise TooMany(MOST_DEVICES + 1)
-        self._devices = [*self._devices, device]
+        self._devices = (*self._devices, device)
         return "ok"
 
     def _gather_link(self, values):
         """Gather a link."""
         if len(self._links) == MOST_LINKS:
             raise TooMany(MOST_LINKS + 1)
-        self._links = [*self._links, (values[0], values[1])]
+        self._links = (*self._links, (values[0], values[1]))
         return "ok"
 
     def _gather_fault(self, values):
         """Gather a fault."""
         drivers = Drivers([*self._faults, tuple(values)])
-        self._faults = drivers.faults()
+        self._faults = tuple(drivers.faults())
         return "ok"
 
     def _start(self):
         """Begin with a Host of what was gathered."""
-        machine = Machine(self._devices, self._links)
-        self._host = Host(machine, drivers=Drivers(self._faults))
+        machine = Machine(list(self._devices), list(self._links))
+        self._host = Host(machine, drivers=Drivers(list(self._faults)))
         self._first_machine = machine
-        self._devices = []
-        self._links = []
-        self._faults = []
+        self._devices = ()
+        self._links = ()
+        self._faults = ()
         return names_text(machine.order())
 
     def _keep(self):

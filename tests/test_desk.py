@@ -531,6 +531,130 @@ class BesideTest(unittest.TestCase):
             self.assertEqual(self.asked(host), all_of(made))
 
 
+def spoil(found):
+    """Change all lists that a refusal holds, as its asker may; told is whether there are any."""
+    lists = [thing for thing in vars(found).values() if isinstance(thing, list)]
+    for told in lists:
+        told.append("more")
+        told.insert(0, Device("more"))
+        if len(told) > 2:
+            del told[1]
+    return lists != []
+
+
+class HandedOutTest(unittest.TestCase):
+    """Points 6, 132 and 134: what a refusal tells is the asker's own, and nothing of the desk."""
+
+    FAULTS = [f"fault {name} {deed} {number} busy" for name in "ab" for deed in ("wake", "doze") for number in range(1, 11)]
+    DEVICE = "device {} {} 5 1 1 1 0".format
+
+    def refused_twice(self, lines, line, error, found):
+        """A desk that refuses a line alike, when the list of the first refusal was changed."""
+        made = Desk()
+        for one in lines:
+            made.say(one)
+        for _ in range(2):
+            with self.assertRaises(error) as told:
+                made.say(line)
+            self.assertIs(error, told.exception.__class__)
+            self.assertEqual(found, told.exception.found)
+            self.assertIs(list, told.exception.found.__class__)
+            self.assertTrue(spoil(told.exception))
+        return made
+
+    def test_a_start_without_devices(self):
+        made = self.refused_twice([], "start", NoList, [])
+        self.assertEqual("ok", made.say(self.DEVICE("bus", "-")))
+        self.assertEqual("bus", made.say("start"))
+        self.assertEqual("bus=doze", made.say("states"))
+
+    def test_a_start_without_devices_with_links_and_faults(self):
+        made = self.refused_twice(["link a b", "fault a wake 1 busy"], "start", NoList, [])
+        for line in (self.DEVICE("b", "-"), self.DEVICE("a", "-")):
+            self.assertEqual("ok", made.say(line))
+        self.assertEqual("b a", made.say("start"))
+        self.assertEqual("b", made.say("needs a"))
+        check_tells(self, Busy, {"found": "a", "at": "wake"}, made.say, "gain a")
+
+    def test_a_start_behind_one_that_began(self):
+        made = self.refused_twice([*GATHERING, "start", "gain disk"], "start", NoList, [])
+        self.assertEqual("disk=on bus=on lamp=on", made.say("states"))
+        made.say(self.DEVICE("tip", "-"))
+        self.assertEqual("tip", made.say("start"))
+
+    def test_a_start_with_a_ring(self):
+        made = self.refused_twice([self.DEVICE("a", "b"), self.DEVICE("b", "a")], "start", Ring, ["a", "b"])
+        self.assertEqual(("ok", "ok", "ok"), (made.say("undo"), made.say("undo"), made.say("undo")))
+        made.say(self.DEVICE("b", "-"))
+        self.assertEqual("b a", made.say("start"))
+
+    def test_a_fault_too_many(self):
+        faults = [tuple(int(word) if word.isdigit() else word for word in line.split(" ")[1:]) for line in self.FAULTS]
+        line = "fault b late 1 broken"
+        made = self.refused_twice([self.DEVICE("a", "-"), *self.FAULTS], line, NoList, [*faults, ("b", "late", 1, "broken")])
+        self.assertEqual("a", made.say("start"))
+        check_tells(self, Busy, {"found": "a", "at": "wake"}, made.say, "gain a")
+        # Taken back are the gain, the start and both refused lines, but none of the forty faults.
+        self.assertEqual(["ok"] * 4, [made.say("undo") for _ in range(4)])
+        check_tells(self, NoList, {"found": [*faults, ("b", "late", 1, "broken")]}, made.say, line)
+
+    def test_what_the_host_refuses(self):
+        made = self.refused_twice([*GATHERING, "start"], "unplug bus", Needed, ["disk"])
+        self.assertEqual(("disk", "bus lamp"), (made.say("users bus"), made.say("needs disk")))
+        made = self.refused_twice([*GATHERING, "start"], "plug pad - 5 1 1 1 0 / bus pad / pad disk", Ring, ["disk", "bus", "pad"])
+        self.assertEqual("bus lamp disk", made.say("order"))
+        self.assertEqual("device disk bus 5 1 1 1 0", made.say("unplug disk"))
+
+    def test_what_an_undo_brings_back(self):
+        made = Desk()
+        for _ in range(2):
+            with self.assertRaises(NoList) as told:
+                made.say("start")
+            spoil(told.exception)
+            made.say("link a b")
+            self.assertEqual("ok", made.say("undo"))
+            self.assertEqual("ok", made.say("undo"))
+            check_tells(self, NoList, {"found": []}, made.say, "start")
+            self.assertEqual("ok", made.say("undo"))
+            check_refused(self, Ended, {}, made.say, "undo")
+        made = self.refused_twice([*GATHERING, "start"], "start", NoList, [])
+        for line in (self.DEVICE("b", "-"), "start"):
+            made.say(line)
+        self.assertEqual("b=doze", made.say("states"))
+        # Back to ahead of the start that began, of the device, and of both refused starts.
+        self.assertEqual(["ok"] * 4, [made.say("undo") for _ in range(4)])
+        self.assertEqual("disk=doze bus=doze lamp=doze", made.say("states"))
+        check_tells(self, NoList, {"found": []}, made.say, "start")
+        self.assertEqual(["ok"] * 2, [made.say("undo") for _ in range(2)])
+        self.assertEqual("bus lamp disk", made.say("start"))
+
+    def told(self, made, line, spoils):
+        """What a desk answers or refuses, and whether a list was told that the asker may change."""
+        try:
+            return made.say(line), False
+        except (LookupError, ValueError) as found:
+            fields = {field: list(thing) if isinstance(thing, list) else thing for field, thing in vars(found).items()}
+            return (found.__class__, fields), spoils and spoil(found)
+
+    def test_histories(self):
+        chance = random.Random(14)
+        device = self.DEVICE
+        lines = ["start"] * 12 + ["undo"] * 12 + ["link a b", "link b c", "link c a", "fault a wake 1 busy", "fault c doze 2 broken"]
+        lines += [device("a", "-"), device("a", "-"), device("b", "-"), device("b", "a"), device("c", "-"), device("c", "b")]
+        lines += ["gain a", "gain b", "release a", "tick 1", "unplug a", "unplug b", "unplug c", "plug d d 5 1 1 1 0",
+                  "plug d b 5 1 1 1 0 / a d", "plug d b 5 1 1 1 0", "sleep", "rise"]
+        spoiled = 0
+        for _ in range(300):
+            made, other = Desk(), Desk()
+            for _ in range(40):
+                line = chance.choice(lines)
+                told, changed = self.told(made, line, True)
+                spoiled += changed
+                self.assertEqual(self.told(other, line, False)[0], told, line)
+            self.assertEqual(all_of(other), all_of(made))
+        self.assertGreater(spoiled, 1000)
+
+
 class TwoDesksTest(unittest.TestCase):
     """Point 136."""
 
